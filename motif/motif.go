@@ -1,6 +1,8 @@
 // Package motif: patterns with "and" and "not", searched for and compared: see DOC.md.
 package motif
 
+import "slices"
+
 // Errno is what a call answers: OK or the reason for a refusal.
 type Errno int
 
@@ -20,6 +22,8 @@ const (
 	maxDepth   = 8
 	maxRepeat  = 12
 	maxSize    = 60
+	maxText    = 60 // bytes
+	maxBudget  = 200
 )
 
 // giveUp is what the program's own panics carry.
@@ -46,27 +50,84 @@ func attempt(work func()) (stop giveUp) {
 	return giveUp{OK, 0}
 }
 
+// read reads a pattern, and tells why it is refused, and where.
+func read(pattern string) (node, giveUp) {
+	if len(pattern) > maxPattern {
+		return node{}, giveUp{ErrLong, 0}
+	}
+	var whole node
+	stop := attempt(func() { whole = readPattern(pattern) })
+	if stop.err == OK && whole.size > maxSize {
+		stop = giveUp{ErrBig, 0}
+	}
+	return whole, stop
+}
+
 // Check tells whether a text is a right pattern (P3).
 func Check(pattern string) (Errno, int) {
-	if len(pattern) > maxPattern {
-		return ErrLong, 0
-	}
-	size := 0
-	stop := attempt(func() { size = readPattern(pattern) })
-	if stop.err == OK && size > maxSize {
-		return ErrBig, 0
-	}
+	_, stop := read(pattern)
 	return stop.err, stop.place
 }
 
+// begin reads what all searches in a text are given.
+func begin(pattern string, text string, budget int) (node, Errno) {
+	if len(text) > maxText {
+		return node{}, ErrLong
+	}
+	whole, stop := read(pattern)
+	if stop.err != OK {
+		return node{}, stop.err
+	}
+	if budget < 0 || budget > maxBudget {
+		return node{}, ErrArg
+	}
+	return whole, OK
+}
+
 // Match tells whether a text is a word of a pattern (P4).
-func Match(pattern string, text string, budget int) (bool, Errno) { return false, OK }
+func Match(pattern string, text string, budget int) (bool, Errno) {
+	whole, err := begin(pattern, text, budget)
+	if err != OK {
+		return false, err
+	}
+	matched := false
+	stop := attempt(func() { matched = newSearch(whole, text, budget).takesAll() })
+	return matched, stop.err
+}
 
 // Find finds the first and longest stretch (P5).
-func Find(pattern string, text string, from int, budget int) (int, int, Errno) { return 0, 0, OK }
+func Find(pattern string, text string, from int, budget int) (int, int, Errno) {
+	whole, err := begin(pattern, text, budget)
+	if err != OK {
+		return 0, 0, err
+	}
+	at := places(text)
+	index, ok := slices.BinarySearch(at, from)
+	if !ok {
+		return 0, 0, ErrArg
+	}
+	var first stretch
+	found := false
+	stop := attempt(func() { first, found = newSearch(whole, text, budget).first(index) })
+	if stop.err != OK {
+		return 0, 0, stop.err
+	}
+	if !found {
+		return -1, -1, OK
+	}
+	return at[first.begin], at[first.end], OK
+}
 
 // FindAll finds all stretches, one behind the other (P5).
-func FindAll(pattern string, text string, budget int) (string, Errno) { return "", OK }
+func FindAll(pattern string, text string, budget int) (string, Errno) {
+	whole, err := begin(pattern, text, budget)
+	if err != OK {
+		return "", err
+	}
+	answer := ""
+	stop := attempt(func() { answer = written(newSearch(whole, text, budget).each(), places(text)) })
+	return answer, stop.err
+}
 
 // Empty tells whether a pattern has no word (P6).
 func Empty(pattern string, budget int) (bool, string, Errno) { return false, "", OK }

@@ -14,21 +14,50 @@ const (
 	maxDigits      = 6 // of \u{
 )
 
+const endless = -1 // times, of a repeat without a greatest number
+
+type shape int
+
+const (
+	aSingle shape = iota // one symbol of a set
+	aChoice
+	aBoth
+	aRow
+	aNot
+	aRepeat
+)
+
+// node is a part of a pattern that has been read. No term is made ahead of the
+// whole size: a pattern that is too big could make no end of them.
+type node struct {
+	shape shape
+	parts []node
+	set   set // of a single
+	times     // of a repeat
+	size  int
+}
+
+// times is how often a part is repeated, and by what this multiplies its size.
+type times struct {
+	least, most int
+	factor      int
+}
+
 // reader goes through a pattern from the left. Each of its methods that reads
 // a part of a pattern steps over it, or gives up at the first symbol that
-// cannot stand there. Sizes are told on the way, so no tree is kept.
+// cannot stand there.
 type reader struct {
 	text  string
 	place int // in bytes, of the next symbol
 	depth int // groups that are open
 }
 
-// readPattern tells a pattern's size, or gives up by a panic with a giveUp.
-func readPattern(pattern string) int {
+// readPattern reads a pattern, or gives up by a panic with a giveUp.
+func readPattern(pattern string) node {
 	r := &reader{text: pattern}
-	size := r.choice()
+	whole := r.choice()
 	r.take(end)
-	return size
+	return whole
 }
 
 func (r *reader) refuse(err Errno) {
@@ -70,31 +99,39 @@ func capped(size int) int {
 	return min(size, maxSize+1)
 }
 
-func (r *reader) choice() int {
-	size := r.both()
-	for r.met('|') {
-		size = capped(size + 1 + r.both())
-	}
-	return size
+func (r *reader) choice() node {
+	return joined(aChoice, r.parted('|', r.both))
 }
 
-func (r *reader) both() int {
-	size := r.row()
-	for r.met('&') {
-		size = capped(size + 1 + r.row())
-	}
-	return size
+func (r *reader) both() node {
+	return joined(aBoth, r.parted('&', r.row))
 }
 
-func (r *reader) row() int {
-	if r.atRowEnd() {
-		return 1
+func (r *reader) parted(mark rune, read func() node) []node {
+	parts := []node{read()}
+	for r.met(mark) {
+		parts = append(parts, read())
 	}
-	size := r.item()
+	return parts
+}
+
+func (r *reader) row() node {
+	var items []node
 	for !r.atRowEnd() {
-		size = capped(size + 1 + r.item())
+		items = append(items, r.item())
 	}
-	return size
+	if len(items) == 0 {
+		return node{shape: aRow, size: 1}
+	}
+	return joined(aRow, items)
+}
+
+func joined(s shape, parts []node) node {
+	size := len(parts) - 1
+	for _, part := range parts {
+		size = capped(size + part.size)
+	}
+	return node{shape: s, parts: parts, size: size}
 }
 
 func (r *reader) atRowEnd() bool {
@@ -105,38 +142,46 @@ func (r *reader) atRowEnd() bool {
 	return false
 }
 
-func (r *reader) item() int {
+func (r *reader) item() node {
 	nots := 0
 	for r.met('~') {
 		nots++
 	}
-	size := r.atom()
+	n := r.atom()
 	for strings.ContainsRune("*+?{", r.look()) {
-		size = capped(size * r.repeat())
+		often := r.repeat()
+		n = node{shape: aRepeat, parts: []node{n}, times: often, size: capped(n.size * often.factor)}
 	}
-	return capped(size + nots)
+	for range nots {
+		n = node{shape: aNot, parts: []node{n}, size: capped(n.size + 1)}
+	}
+	return n
 }
 
-// repeat tells by what a repeat multiplies the size.
-func (r *reader) repeat() int {
-	if r.met('{') {
-		return r.bounds()
+func (r *reader) repeat() times {
+	switch {
+	case r.met('*'):
+		return times{0, endless, 2}
+	case r.met('+'):
+		return times{1, endless, 2}
+	case r.met('?'):
+		return times{0, 1, 2}
 	}
-	r.step()
-	return 2
+	r.take('{')
+	return r.bounds()
 }
 
-func (r *reader) bounds() int {
+func (r *reader) bounds() times {
 	least := r.number(0)
 	most := least
 	if r.met(',') {
 		if r.met('}') {
-			return least + 1
+			return times{least, endless, least + 1}
 		}
 		most = r.number(least)
 	}
 	r.take('}')
-	return max(most, 1)
+	return times{least, most, max(most, 1)}
 }
 
 func (r *reader) number(least int) int {
@@ -165,53 +210,65 @@ func (r *reader) digit(digits string) (int, bool) {
 	return value, true
 }
 
-func (r *reader) atom() int {
-	switch r.look() {
-	case '(':
+func (r *reader) atom() node {
+	if r.look() == '(' {
 		return r.group()
-	case '[':
-		r.class()
-	case '\\':
-		if !r.metSet() {
-			r.escape()
-		}
-	case '.':
-		r.step()
-	default:
-		r.plain()
 	}
-	return 1
+	return node{shape: aSingle, set: r.single(), size: 1}
 }
 
-func (r *reader) plain() {
-	symbol := r.look()
-	if symbol == end || strings.ContainsRune(marks, symbol) {
-		r.refuse(ErrForm)
-	}
-	r.step()
-}
-
-func (r *reader) group() int {
+func (r *reader) group() node {
 	if r.depth == maxDepth {
 		r.refuse(ErrDeep)
 	}
 	r.take('(')
 	r.depth++
-	size := r.choice()
+	within := r.choice()
 	r.depth--
 	r.take(')')
-	return size
+	return within
 }
 
-// metSet steps over one of the escapes that stand for several symbols: they
-// are kept apart from escape because they can be no limit of a class.
-func (r *reader) metSet() bool {
-	rest := r.text[r.place:]
-	if strings.HasPrefix(rest, `\d`) || strings.HasPrefix(rest, `\w`) {
-		r.place += 2
-		return true
+// single reads an atom whose words are of one symbol, and tells which.
+func (r *reader) single() set {
+	if r.look() == '[' {
+		return r.class()
 	}
-	return false
+	if r.met('.') {
+		return everySymbol
+	}
+	if symbols, met := r.several(); met {
+		return symbols
+	}
+	symbol := r.symbol()
+	return setOf([]piece{{symbol, symbol}})
+}
+
+func (r *reader) symbol() rune {
+	symbol := r.look()
+	if symbol == '\\' {
+		return r.escape()
+	}
+	if symbol == end || strings.ContainsRune(marks, symbol) {
+		r.refuse(ErrForm)
+	}
+	r.step()
+	return symbol
+}
+
+// several steps over one of the escapes that stand for several symbols: they
+// are kept apart from escape because they can be no limit of a class.
+func (r *reader) several() (set, bool) {
+	rest := r.text[r.place:]
+	switch {
+	case strings.HasPrefix(rest, `\d`):
+		r.place += 2
+		return digitSymbols, true
+	case strings.HasPrefix(rest, `\w`):
+		r.place += 2
+		return wordSymbols, true
+	}
+	return noSymbols, false
 }
 
 // escape tells the symbol for which an escape stands.
@@ -253,25 +310,32 @@ func (r *reader) numbered() rune {
 	return symbol
 }
 
-func (r *reader) class() {
+func (r *reader) class() set {
 	r.take('[')
-	r.met('^')
+	turned := r.met('^')
+	var pieces []piece
 	for !r.met(']') {
-		r.part()
+		pieces = append(pieces, r.part()...)
 	}
+	if turned {
+		return setOf(pieces).others()
+	}
+	return setOf(pieces)
 }
 
-func (r *reader) part() {
-	if r.metSet() {
-		return
+func (r *reader) part() []piece {
+	if symbols, met := r.several(); met {
+		return symbols.pieces()
 	}
 	first := r.limit()
 	if !r.met('-') {
-		return
+		return []piece{{first, first}}
 	}
-	if r.limit() < first {
+	last := r.limit()
+	if last < first {
 		r.refuse(ErrRange)
 	}
+	return []piece{{first, last}}
 }
 
 func (r *reader) limit() rune {
