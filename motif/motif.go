@@ -69,11 +69,8 @@ func Check(pattern string) (Errno, int) {
 	return stop.err, stop.place
 }
 
-// begin reads what all searches in a text are given.
-func begin(pattern string, text string, budget int) (node, Errno) {
-	if len(text) > maxText {
-		return node{}, ErrLong
-	}
+// begin reads what all searches and comparisons are given.
+func begin(pattern string, budget int) (node, Errno) {
 	whole, stop := read(pattern)
 	if stop.err != OK {
 		return node{}, stop.err
@@ -84,9 +81,31 @@ func begin(pattern string, text string, budget int) (node, Errno) {
 	return whole, OK
 }
 
+// beginText is begin for a search in a text, which must not be too long either.
+func beginText(pattern string, text string, budget int) (node, Errno) {
+	if len(text) > maxText {
+		return node{}, ErrLong
+	}
+	return begin(pattern, budget)
+}
+
+// beginTwo is begin for two patterns. The other's length is looked at ahead of
+// reading the first, and its errors of reading behind those of the first.
+func beginTwo(pattern string, other string, budget int) (one node, two node, err Errno) {
+	if len(other) > maxPattern {
+		return node{}, node{}, ErrLong
+	}
+	one, stop := read(pattern)
+	if stop.err != OK {
+		return node{}, node{}, stop.err
+	}
+	two, err = begin(other, budget)
+	return one, two, err
+}
+
 // Match tells whether a text is a word of a pattern (P4).
 func Match(pattern string, text string, budget int) (bool, Errno) {
-	whole, err := begin(pattern, text, budget)
+	whole, err := beginText(pattern, text, budget)
 	if err != OK {
 		return false, err
 	}
@@ -97,7 +116,7 @@ func Match(pattern string, text string, budget int) (bool, Errno) {
 
 // Find finds the first and longest stretch (P5).
 func Find(pattern string, text string, from int, budget int) (int, int, Errno) {
-	whole, err := begin(pattern, text, budget)
+	whole, err := beginText(pattern, text, budget)
 	if err != OK {
 		return 0, 0, err
 	}
@@ -120,7 +139,7 @@ func Find(pattern string, text string, from int, budget int) (int, int, Errno) {
 
 // FindAll finds all stretches, one behind the other (P5).
 func FindAll(pattern string, text string, budget int) (string, Errno) {
-	whole, err := begin(pattern, text, budget)
+	whole, err := beginText(pattern, text, budget)
 	if err != OK {
 		return "", err
 	}
@@ -129,14 +148,45 @@ func FindAll(pattern string, text string, budget int) (string, Errno) {
 	return answer, stop.err
 }
 
+// wordless tells whether a term has no word, or else its least one.
+func wordless(budget int, makeTerm func(t *table) int) (bool, string, Errno) {
+	word, found := "", false
+	stop := attempt(func() {
+		t := newTable()
+		word, found = t.leastWord(makeTerm(t), budget)
+	})
+	if stop.err != OK {
+		return false, "", stop.err
+	}
+	return !found, word, OK
+}
+
 // Empty tells whether a pattern has no word (P6).
-func Empty(pattern string, budget int) (bool, string, Errno) { return false, "", OK }
+func Empty(pattern string, budget int) (bool, string, Errno) {
+	whole, err := begin(pattern, budget)
+	if err != OK {
+		return false, "", err
+	}
+	return wordless(budget, func(t *table) int { return t.ofNode(whole) })
+}
 
 // Includes tells whether each word of a pattern is one of another (P6).
-func Includes(pattern string, other string, budget int) (bool, string, Errno) { return false, "", OK }
+func Includes(pattern string, other string, budget int) (bool, string, Errno) {
+	one, two, err := beginTwo(pattern, other, budget)
+	if err != OK {
+		return false, "", err
+	}
+	return wordless(budget, func(t *table) int { return t.lacking(t.ofNode(one), t.ofNode(two)) })
+}
 
 // Equal tells whether two patterns have the same words (P6).
-func Equal(pattern string, other string, budget int) (bool, string, Errno) { return false, "", OK }
+func Equal(pattern string, other string, budget int) (bool, string, Errno) {
+	one, two, err := beginTwo(pattern, other, budget)
+	if err != OK {
+		return false, "", err
+	}
+	return wordless(budget, func(t *table) int { return t.differing(t.ofNode(one), t.ofNode(two)) })
+}
 
 // Minimal makes the smallest automaton (P7).
 func Minimal(pattern string, budget int) (string, Errno) { return "", OK }

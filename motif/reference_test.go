@@ -422,3 +422,93 @@ func TestFindAllAgainstTheWords(t *testing.T) {
 		}
 	})
 }
+
+// alphabet tells how the letters are written: a and b as symbols, c as the
+// least of all others; and in which order the three come.
+type alphabet struct {
+	a, b, c string
+	order   string
+}
+
+// written writes a pattern over a, b and c in an alphabet's symbols.
+func (s alphabet) written(pattern string) string {
+	return strings.NewReplacer(`\u{62}`, s.b, "a", s.a, "b", s.b).Replace(pattern)
+}
+
+func (s alphabet) text(word string) string {
+	return strings.NewReplacer("a", s.a, "b", s.b, "c", s.c).Replace(word)
+}
+
+// least tells the least word of up to five letters, by trying all of them.
+func (s alphabet) least(has func(word string) bool) (string, bool) {
+	words := []string{""}
+	for range 6 {
+		if at := slices.IndexFunc(words, has); at >= 0 {
+			return words[at], true
+		}
+		var longer []string
+		for _, word := range words {
+			for _, letter := range s.order {
+				longer = append(longer, word+string(letter))
+			}
+		}
+		words = longer
+	}
+	return "", false
+}
+
+// remainders tells how many remainders a term has, up to 201, and whether one
+// of them has the empty word.
+func (n named) remainders() (count int, hasWord bool) {
+	seen := meeting{n.name: true}
+	work := []named{n}
+	for place := 0; place < len(work) && len(work) <= 200; place++ {
+		for _, letter := range []byte("abc") {
+			if next := work[place].becomes(letter); !seen[next.name] {
+				seen[next.name] = true
+				work = append(work, next)
+			}
+		}
+	}
+	return len(work), slices.ContainsFunc(work, named.hasEmpty)
+}
+
+// wantComparison: what a call must answer about the words of an example.
+func wantComparison(t *testing.T, s alphabet, e example, name string, ask func(budget int) (bool, string, motif.Errno)) {
+	t.Helper()
+	count, hasWord := e.term.remainders()
+	if yes, word, err := ask(count - 1); yes || word != "" || err != motif.ErrBudget {
+		t.Errorf("%s with %d: %v, %q, %d, want ErrBudget", name, count-1, yes, word, err)
+	}
+	if count > 200 {
+		return
+	}
+	least, short := s.least(e.has)
+	for _, budget := range []int{count, 200} {
+		yes, word, err := ask(budget)
+		if yes == hasWord || err != motif.OK || yes && word != "" {
+			t.Errorf("%s with %d: %v, %q, %d, want %v", name, budget, yes, word, err, !hasWord)
+		}
+		if short && word != s.text(least) || !short && hasWord && len([]rune(word)) <= 5 {
+			t.Errorf("%s with %d: the word %q, want %q (%v)", name, budget, word, s.text(least), short)
+		}
+	}
+}
+
+func TestComparisonsAgainstTheWords(t *testing.T) {
+	alphabets := []alphabet{{"a", "b", "\x00", "cab"}, {"\x00", "\x01", "\x02", "abc"}, {"\ud7ff", "\ue000", "\x00", "cab"}, {"é", "ê", "\x00", "cab"}}
+	before := emptyExample()
+	eachExample(t, func(r *rand.Rand, e example) {
+		s := alphabets[r.Intn(len(alphabets))]
+		one, two := s.written(e.pattern), s.written(before.pattern)
+		if len(one) > 60 || len(two) > 60 {
+			s, one, two = alphabets[0], e.pattern, before.pattern
+		}
+		inOne := allExample(e, notExample(before))
+		inTwo := allExample(before, notExample(e))
+		wantComparison(t, s, e, "Empty of "+one, func(budget int) (bool, string, motif.Errno) { return motif.Empty(one, budget) })
+		wantComparison(t, s, inOne, "Includes of "+one+" and "+two, func(budget int) (bool, string, motif.Errno) { return motif.Includes(one, two, budget) })
+		wantComparison(t, s, anyExample(inOne, inTwo), "Equal of "+one+" and "+two, func(budget int) (bool, string, motif.Errno) { return motif.Equal(one, two, budget) })
+		before = e
+	})
+}

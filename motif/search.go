@@ -8,28 +8,18 @@ import (
 // search goes through a text with the terms that a pattern becomes on the way.
 type search struct {
 	*table
+	meeting
 	start   int // the pattern's term
 	symbols []rune
-	budget  int
-	met     map[int]struct{}
 }
 
 func newSearch(pattern node, text string, budget int) *search {
 	t := newTable()
 	return &search{
 		table:   t,
+		meeting: newMeeting(budget),
 		start:   t.ofNode(pattern),
 		symbols: []rune(text),
-		budget:  budget,
-		met:     map[int]struct{}{},
-	}
-}
-
-// meet counts a term if it is a new one, or gives up by a panic with a giveUp.
-func (s *search) meet(number int) {
-	s.met[number] = struct{}{}
-	if len(s.met) > s.budget {
-		panic(giveUp{ErrBudget, 0})
 	}
 }
 
