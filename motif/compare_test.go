@@ -286,42 +286,6 @@ func TestComparisonsKeepNothing(t *testing.T) {
 	}
 }
 
-// TestComparisonBudgetsDoNoHarm: a budget that is enough answers what each
-// greater does.
-func TestComparisonBudgetsDoNoHarm(t *testing.T) {
-	type answer struct {
-		yes  bool
-		word string
-	}
-	ascend := func(name string, ask func(budget int) (bool, string, motif.Errno)) {
-		var want answer
-		answered := false
-		for budget := range 201 {
-			yes, word, err := ask(budget)
-			got := answer{yes, word}
-			switch {
-			case err == motif.OK && !answered:
-				want, answered = got, true
-			case err == motif.OK && got != want, err != motif.OK && answered:
-				t.Errorf("%s with %d: %v, %d, and %v with less", name, budget, got, err, want)
-			case err != motif.OK && (err != motif.ErrBudget || got != answer{}):
-				t.Errorf("%s with %d: %v, %d", name, budget, got, err)
-			}
-		}
-		if !answered {
-			t.Errorf("%s never answers", name)
-		}
-	}
-	patterns := []string{`a|ab|b`, `~(.*ab.*)`, `(a|b)*a(a|b){2}`, `a{2,5}&~(aaa)`, `[]`, `.*`}
-	for _, pattern := range patterns {
-		ascend("Empty of "+pattern, func(budget int) (bool, string, motif.Errno) { return motif.Empty(pattern, budget) })
-		for _, other := range patterns {
-			ascend("Includes of "+pattern+" and "+other, func(budget int) (bool, string, motif.Errno) { return motif.Includes(pattern, other, budget) })
-			ascend("Equal of "+pattern+" and "+other, func(budget int) (bool, string, motif.Errno) { return motif.Equal(pattern, other, budget) })
-		}
-	}
-}
-
 // TestComparisonsOnAllTexts: patterns of all sorts, right and wrong ones: the
 // errors are those of Check, and what the calls answer goes together.
 func TestComparisonsOnAllTexts(t *testing.T) {

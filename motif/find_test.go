@@ -181,29 +181,6 @@ func TestFindAboveTheGreatestBudget(t *testing.T) {
 	wantAlls(t, []allCase{{pattern, text, 200, "", motif.ErrBudget}})
 }
 
-// TestBudgetsDoNoHarm: a budget that is enough answers what each greater does.
-func TestBudgetsDoNoHarm(t *testing.T) {
-	for _, pattern := range []string{`a|ab|b`, `~(.*ab.*)`, `(a|b)*a(a|b){2}`, `a{2,5}&~(aaa)`} {
-		for _, text := range []string{``, `xabab`, `aaaaaaaa`, `bbabbabbbaab`} {
-			want, answered := "", false
-			for budget := range 201 {
-				stretches, err := motif.FindAll(pattern, text, budget)
-				switch {
-				case err == motif.OK && !answered:
-					want, answered = stretches, true
-				case err == motif.OK && stretches != want:
-					t.Errorf("FindAll(%q, %q, %d) = %q, and %q with less", pattern, text, budget, stretches, want)
-				case err != motif.OK && answered:
-					t.Errorf("FindAll(%q, %q, %d): %d, but not with less", pattern, text, budget, err)
-				}
-			}
-			if !answered {
-				t.Errorf("FindAll(%q, %q) never answers", pattern, text)
-			}
-		}
-	}
-}
-
 // TestCallsOnAllTexts: patterns of all sorts, right and wrong ones: the errors
 // are those of Check, and what the calls answer goes together.
 func TestCallsOnAllTexts(t *testing.T) {

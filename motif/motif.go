@@ -189,4 +189,15 @@ func Equal(pattern string, other string, budget int) (bool, string, Errno) {
 }
 
 // Minimal makes the smallest automaton (P7).
-func Minimal(pattern string, budget int) (string, Errno) { return "", OK }
+func Minimal(pattern string, budget int) (string, Errno) {
+	whole, err := begin(pattern, budget)
+	if err != OK {
+		return "", err
+	}
+	answer := ""
+	stop := attempt(func() {
+		t := newTable()
+		answer = t.smallest(t.ofNode(whole), budget)
+	})
+	return answer, stop.err
+}

@@ -428,6 +428,36 @@ func TestFindAllAgainstTheWords(t *testing.T) {
 type alphabet struct {
 	a, b, c string
 	order   string
+	spans   []letterSpan // all symbols
+}
+
+// letterSpan is neighbours that are one letter, in hexadecimal digits.
+type letterSpan struct {
+	low, high string
+	letter    byte
+}
+
+func alphabets() []alphabet {
+	return []alphabet{
+		{"a", "b", "\x00", "cab", []letterSpan{{"0", "60", 'c'}, {"61", "61", 'a'}, {"62", "62", 'b'}, {"63", "10ffff", 'c'}}},
+		{"\x00", "\x01", "\x02", "abc", []letterSpan{{"0", "0", 'a'}, {"1", "1", 'b'}, {"2", "10ffff", 'c'}}},
+		{"\ud7ff", "\ue000", "\x00", "cab", []letterSpan{{"0", "d7fe", 'c'}, {"d7ff", "d7ff", 'a'}, {"e000", "e000", 'b'}, {"e001", "10ffff", 'c'}}},
+		{"\ue000", "\ue001", "\x00", "cab", []letterSpan{{"0", "d7ff", 'c'}, {"e000", "e000", 'a'}, {"e001", "e001", 'b'}, {"e002", "10ffff", 'c'}}},
+		{"é", "ê", "\x00", "cab", []letterSpan{{"0", "e8", 'c'}, {"e9", "e9", 'a'}, {"ea", "ea", 'b'}, {"eb", "10ffff", 'c'}}},
+		{"\U0010fffe", "\U0010ffff", "\x00", "cab", []letterSpan{{"0", "10fffd", 'c'}, {"10fffe", "10fffe", 'a'}, {"10ffff", "10ffff", 'b'}}},
+	}
+}
+
+// someAlphabet is one in which a pattern of a, b and c is not too long.
+func someAlphabet(r *rand.Rand, patterns ...string) alphabet {
+	all := alphabets()
+	s := all[r.Intn(len(all))]
+	for _, pattern := range patterns {
+		if len(s.written(pattern)) > 60 {
+			return all[0]
+		}
+	}
+	return s
 }
 
 // written writes a pattern over a, b and c in an alphabet's symbols.
@@ -457,26 +487,27 @@ func (s alphabet) least(has func(word string) bool) (string, bool) {
 	return "", false
 }
 
-// remainders tells how many remainders a term has, up to 201, and whether one
-// of them has the empty word.
-func (n named) remainders() (count int, hasWord bool) {
+// remainders tells the remainders of a term, itself as the first; of more than
+// 200 some more than that.
+func (n named) remainders() []named {
 	seen := meeting{n.name: true}
-	work := []named{n}
-	for place := 0; place < len(work) && len(work) <= 200; place++ {
+	list := []named{n}
+	for place := 0; place < len(list) && len(list) <= 200; place++ {
 		for _, letter := range []byte("abc") {
-			if next := work[place].becomes(letter); !seen[next.name] {
+			if next := list[place].becomes(letter); !seen[next.name] {
 				seen[next.name] = true
-				work = append(work, next)
+				list = append(list, next)
 			}
 		}
 	}
-	return len(work), slices.ContainsFunc(work, named.hasEmpty)
+	return list
 }
 
 // wantComparison: what a call must answer about the words of an example.
 func wantComparison(t *testing.T, s alphabet, e example, name string, ask func(budget int) (bool, string, motif.Errno)) {
 	t.Helper()
-	count, hasWord := e.term.remainders()
+	list := e.term.remainders()
+	count, hasWord := len(list), slices.ContainsFunc(list, named.hasEmpty)
 	if yes, word, err := ask(count - 1); yes || word != "" || err != motif.ErrBudget {
 		t.Errorf("%s with %d: %v, %q, %d, want ErrBudget", name, count-1, yes, word, err)
 	}
@@ -496,19 +527,102 @@ func wantComparison(t *testing.T, s alphabet, e example, name string, ask func(b
 }
 
 func TestComparisonsAgainstTheWords(t *testing.T) {
-	alphabets := []alphabet{{"a", "b", "\x00", "cab"}, {"\x00", "\x01", "\x02", "abc"}, {"\ud7ff", "\ue000", "\x00", "cab"}, {"é", "ê", "\x00", "cab"}}
 	before := emptyExample()
 	eachExample(t, func(r *rand.Rand, e example) {
-		s := alphabets[r.Intn(len(alphabets))]
+		s := someAlphabet(r, e.pattern, before.pattern)
 		one, two := s.written(e.pattern), s.written(before.pattern)
-		if len(one) > 60 || len(two) > 60 {
-			s, one, two = alphabets[0], e.pattern, before.pattern
-		}
 		inOne := allExample(e, notExample(before))
 		inTwo := allExample(before, notExample(e))
 		wantComparison(t, s, e, "Empty of "+one, func(budget int) (bool, string, motif.Errno) { return motif.Empty(one, budget) })
 		wantComparison(t, s, inOne, "Includes of "+one+" and "+two, func(budget int) (bool, string, motif.Errno) { return motif.Includes(one, two, budget) })
 		wantComparison(t, s, anyExample(inOne, inTwo), "Equal of "+one+" and "+two, func(budget int) (bool, string, motif.Errno) { return motif.Equal(one, two, budget) })
 		before = e
+	})
+}
+
+// movesOf tells to which remainders the remainders of a term go on by a, b, c.
+func movesOf(list []named) [][3]int {
+	places := map[string]int{}
+	for place, n := range list {
+		places[n.name] = place
+	}
+	moves := make([][3]int, len(list))
+	for place, n := range list {
+		for i, letter := range []byte("abc") {
+			moves[place][i] = places[n.becomes(letter).name]
+		}
+	}
+	return moves
+}
+
+// firstsOf tells for each remainder the first one with the same words: each two
+// are held against each other, until no more of them differ.
+func firstsOf(list []named, moves [][3]int) []int {
+	differ := make([][]bool, len(list))
+	for i := range list {
+		differ[i] = make([]bool, len(list))
+		for k := range list {
+			differ[i][k] = list[i].hasEmpty() != list[k].hasEmpty()
+		}
+	}
+	for more := true; more; {
+		more = false
+		for i := range list {
+			for k := range list {
+				for letter := range 3 {
+					if !differ[i][k] && differ[moves[i][letter]][moves[k][letter]] {
+						differ[i][k], more = true, true
+					}
+				}
+			}
+		}
+	}
+	var firsts []int
+	for i := range list {
+		firsts = append(firsts, slices.Index(differ[i], false))
+	}
+	return firsts
+}
+
+// automaton writes the smallest automaton with a term's words.
+func (s alphabet) automaton(list []named) string {
+	moves := movesOf(list)
+	firsts := firstsOf(list, moves)
+	text, states := "", []int{0}
+	for at := 0; at < len(states); at++ {
+		sign := "-"
+		if list[states[at]].hasEmpty() {
+			sign = "+"
+		}
+		var spans []string
+		low, before := "", -1
+		for _, span := range s.spans {
+			first := firsts[moves[states[at]][span.letter-'a']]
+			if !slices.Contains(states, first) {
+				states = append(states, first)
+			}
+			state := slices.Index(states, first)
+			if state == before {
+				spans = spans[:len(spans)-1]
+			} else {
+				low, before = span.low, state
+			}
+			spans = append(spans, low+"-"+span.high+">"+strconv.Itoa(state))
+		}
+		text += sign + strings.Join(spans, ",") + ";"
+	}
+	return text
+}
+
+func TestMinimalAgainstTheWords(t *testing.T) {
+	eachExample(t, func(r *rand.Rand, e example) {
+		s := someAlphabet(r, e.pattern)
+		pattern, list := s.written(e.pattern), e.term.remainders()
+		wantMinimals(t, []minimalCase{{pattern, len(list) - 1, "", motif.ErrBudget}})
+		if len(list) > 200 {
+			return
+		}
+		text := s.automaton(list)
+		wantMinimals(t, []minimalCase{{pattern, len(list), text, motif.OK}, {pattern, 200, text, motif.OK}})
 	})
 }

@@ -24,7 +24,8 @@ const (
 
 // key is what a term is made of. An any or all of more than two is kept as one
 // of its first member and of the any or all of the others, the members in the
-// order of their numbers: so the same members make the same key.
+// order of their numbers, a set as the last: so the same members make the same
+// key.
 type key struct {
 	kind   kind
 	set    set // of a set
@@ -159,15 +160,19 @@ func fold(sets []set, with func(a, b set) set) set {
 	return one
 }
 
-// members tells of what an any (or all) of terms is made, the sets apart.
+// members tells of what an any (or all) of terms is made, each once and in the
+// order of their numbers, the sets apart.
 func (t *table) members(k kind, terms []int) (members []int, sets []set) {
+	var spread []int
 	for _, number := range terms {
-		for _, member := range t.spread(k, number) {
-			if made := t.terms[member]; made.kind == setTerm {
-				sets = append(sets, made.set)
-			} else {
-				members = append(members, member)
-			}
+		spread = append(spread, t.spread(k, number)...)
+	}
+	slices.Sort(spread)
+	for _, member := range slices.Compact(spread) {
+		if made := t.terms[member]; made.kind == setTerm {
+			sets = append(sets, made.set)
+		} else {
+			members = append(members, member)
 		}
 	}
 	return members, sets
@@ -183,11 +188,9 @@ func (t *table) spread(k kind, number int) []int {
 	return append(members, number)
 }
 
-// join keeps an any or all of members of which none is of that kind and at
-// most one a set. It is the same with or without idle, and is ruler with it.
+// join keeps an any or all of members that stand in the order of a key. It is
+// the same with or without idle, and is ruler with it.
 func (t *table) join(k kind, members []int, idle, ruler int) int {
-	slices.Sort(members)
-	members = slices.Compact(members)
 	members = slices.DeleteFunc(members, func(member int) bool { return member == idle })
 	if len(members) == 0 {
 		return idle
